@@ -1,0 +1,1 @@
+"""Elderruns: what is kept of runs before."""
