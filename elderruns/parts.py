@@ -60,7 +60,7 @@ def caught_names(slot):
 
 
 def touched_names(slot):
-    """Return the ascending list of what a handler puts into, or names in `now`."""
+    """Return the ascending list of what a handler puts into, or names in `now` (a memo has no puts)."""
     names = [cell for cell, _ in slot.puts]
     for _, value in slot.puts:
         names.extend(value.nows)
