@@ -136,15 +136,15 @@ def checked_shown(shown, known):
 class Part:
     """A part of a program: cells, slots, and values that it shows; it never changes.
 
-    Each of its slots has its list in the order of cells and then slots, so that lists with
-    the same names are equal.
+    `built` is the tuple of its slots, `showing` that of the values that it shows. Each slot has
+    its list in the order of cells and then slots, so that lists with the same names are equal.
     """
 
     def __init__(self, cells, slots, shown):
         check_cells(cells)
         self._cells = tuple([(name, size) for name, size in cells])
-        self._slots = checked_slots(self._cells, slots)
-        self._shown = checked_shown(shown, names_ahead(self._cells, self._slots))
+        self.built = checked_slots(self._cells, slots)
+        self.showing = checked_shown(shown, names_ahead(self._cells, self.built))
 
     @property
     def cells(self):
@@ -154,42 +154,43 @@ class Part:
     @property
     def slots(self):
         """The list of the names of the slots."""
-        return [slot.name for slot in self._slots]
+        return [slot.name for slot in self.built]
 
     @property
     def handlers(self):
         """The list of the handlers, as tuples of name and number of arguments."""
-        return [(slot.name, slot.many) for slot in self._slots if slot.many > 0]
+        return [(slot.name, slot.many) for slot in self.built if slot.many > 0]
 
-    def _place(self, name):
-        for place, slot in enumerate(self._slots):
+    def place_of(self, name):
+        """Return the index of a slot, or raise UnknownName."""
+        for place, slot in enumerate(self.built):
             if slot.name == name:
                 return place
         raise UnknownName(name)
 
     def __getitem__(self, at):
-        return list(self._slots[self._place(at)].listed)
+        return list(self.built[self.place_of(at)].listed)
 
     def __iter__(self):
         raise TypeError("a part is not iterated over")
 
     def __len__(self):
-        return len(self._slots)
+        return len(self.built)
 
     def having(self, name, names):
         """Return the part with another list of a slot."""
-        place = self._place(name)
-        slots = list(self._slots)
+        place = self.place_of(name)
+        slots = list(self.built)
         slots[place] = slots[place].listing(names)
-        return Part(self._cells, slots, self._shown)
+        return Part(self._cells, slots, self.showing)
 
     def full(self):
         """Return the part in which each list has all cells and all memos ahead."""
         slots = []
-        for slot in self._slots:
+        for slot in self.built:
             slots.append(slot.listing(names_ahead(self._cells, slots)))
-        return Part(self._cells, slots, self._shown)
+        return Part(self._cells, slots, self.showing)
 
     def __eq__(self, other):
-        return (isinstance(other, Part) and self._cells == other._cells and self._slots == other._slots
-                and self._shown == other._shown)
+        return (isinstance(other, Part) and self._cells == other._cells and self.built == other.built
+                and self.showing == other.showing)

@@ -2,6 +2,7 @@
 
 from elderruns.errors import InvalidDivisor
 from elderruns.names import check_known, check_name
+from elderruns.signs import reckon
 
 
 def named(name):
@@ -43,38 +44,6 @@ def divided(value, sign, n):
     if n < 1:
         raise InvalidDivisor(n)
     return joined(value, sign, n)
-
-
-def leaf_at(kind, word, held, present, argument):
-    """Return the integer of what is built of no other value."""
-    if kind == "named":
-        return held[word]
-    if kind == "now":
-        return present[word]
-    if kind == "passed":
-        return argument
-    return word
-
-
-def reckoned(sign, one, other):
-    """Return the integer of a sign between two integers."""
-    if sign == "+":
-        return one + other
-    if sign == "-":
-        return one - other
-    if sign == "*":
-        return one * other
-    if sign == "//":
-        return one // other
-    if sign == "mod":
-        return one % other
-    if sign == "&":
-        return int(one != 0 and other != 0)
-    if sign == "|":
-        return int(one != 0 or other != 0)
-    if sign == "=":
-        return int(one == other)
-    return int(one < other)
 
 
 class Value:
@@ -155,16 +124,7 @@ class Value:
         """Return the integer, for what the names and the cells now stand for, and an argument."""
         check_known(self.names, held)
         check_known(self.nows, present)
-        stack = []
-        for kind, word in self.signs:
-            if kind in ("number", "named", "now", "passed"):
-                stack.append(leaf_at(kind, word, held, present, argument))
-            elif kind == "~":
-                stack.append(int(stack.pop() == 0))
-            else:
-                other = stack.pop()
-                stack.append(reckoned(kind, stack.pop(), other))
-        return stack.pop()
+        return reckon(self.signs, held, present, argument)
 
     def __eq__(self, other):
         return isinstance(other, Value) and self.signs == other.signs

@@ -9,6 +9,15 @@ PACKAGE = os.path.join(os.path.dirname(os.path.dirname(os.path.abspath(__file__)
 FUNCTIONS = {
     "values.py": {"named": ["name"], "now": ["name"], "passed": [], "number": ["n"]},
     "parts.py": {"memo": ["name", "value", "names"], "handler": ["name", "number", "puts", "names"]},
+    "plays.py": {"play": ["part", "row"], "play_fresh": ["part", "row"], "makings": ["part", "row"],
+                 "wrong_row": ["part", "together=False"], "all_steps": ["part", "together=False"],
+                 "judge": ["part", "table", "together=False"], "first_unlike": ["one", "other"], "machine": ["part"]},
+    "lists.py": {"turning": ["part", "name", "together=False"],
+                 "is_right_list": ["part", "name", "names", "together=False"],
+                 "least_lists": ["part", "name", "together=False"],
+                 "missing_row": ["part", "name", "names", "together=False"],
+                 "tightened": ["part", "together=False"], "idle": ["part", "together=False"]},
+    "late.py": {"late_rows": ["part", "name"], "can_wait": ["part", "name"], "cut_rows": ["part"]},
 }
 # Each class with its methods, of which those with None are called by their signs, and its properties.
 CLASSES = {
@@ -36,11 +45,12 @@ def read(name):
 
 
 def arguments(function):
-    """Return the names of the arguments, and check that all of them are plain."""
+    """Return the names of the arguments, with their defaults, and check that all of them are plain."""
     told = function.args
-    if told.posonlyargs or told.kwonlyargs or told.vararg or told.kwarg or told.defaults:
+    if told.posonlyargs or told.kwonlyargs or told.vararg or told.kwarg:
         raise AssertionError(function.name)
-    return [one.arg for one in told.args]
+    defaults = [""] * (len(told.args) - len(told.defaults)) + ["=" + ast.unparse(one) for one in told.defaults]
+    return [one.arg + default for one, default in zip(told.args, defaults)]
 
 
 class Interface(unittest.TestCase):
@@ -49,6 +59,7 @@ class Interface(unittest.TestCase):
             found = {one.name: one for one in read(file).body if isinstance(one, ast.FunctionDef)}
             for name, awaited in functions.items():
                 self.assertEqual(arguments(found[name]), awaited, name)
+                self.assertEqual(found[name].decorator_list, [])
 
     def test_classes(self):
         for file, classes in CLASSES.items():

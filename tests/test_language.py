@@ -10,7 +10,7 @@ PACKAGE = os.path.join(os.path.dirname(os.path.dirname(os.path.abspath(__file__)
 LIBRARY = {
     "heapq": ["heappush", "heappop", "heapify", "heapreplace", "heappushpop"],
     "math": ["gcd", "lcm", "isqrt", "comb", "perm", "factorial"],
-    "itertools": ["product", "combinations", "permutations", "chain", "accumulate", "pairwise", "islice", "zip_longest"],
+    "itertools": ["chain", "accumulate", "pairwise", "islice", "zip_longest"],
     "collections": ["defaultdict", "deque"],
 }
 USED_BUILTINS = """len range enumerate zip min max sum abs sorted reversed int str bool list tuple dict set isinstance ord
@@ -20,7 +20,10 @@ UNDERSCORES = """__init__ __eq__ __repr__ __str__ __len__ __enter__ __exit__ __c
     __ne__ __add__ __sub__ __mul__ __floordiv__ __mod__ __pow__ __and__ __or__ __xor__ __lshift__ __rshift__ __radd__
     __rsub__ __rmul__ __rfloordiv__ __rmod__ __rand__ __ror__ __rxor__ __rlshift__ __rrshift__ __neg__ __pos__
     __invert__ __abs__ __bool__ __contains__ __getitem__ __setitem__""".split()
-BARRED_NODES = (ast.AsyncFunctionDef, ast.AsyncFor, ast.AsyncWith, ast.Await, ast.MatMult, ast.Div, ast.Import)
+# Generators are not used, since values and parts are compared; nor are the products of the library, since a part has
+# a length and an __iter__.
+BARRED_NODES = (ast.AsyncFunctionDef, ast.AsyncFor, ast.AsyncWith, ast.Await, ast.MatMult, ast.Div, ast.Import,
+                ast.GeneratorExp, ast.Yield, ast.YieldFrom)
 BARRED_NAMES = """register mro elements open input law version_info with_traceback add_note attrgetter breakpoint builtins
     compile copyright credits delattr dir eval exec exit gc globals help id importlib license locals methodcaller os
     quit vars sys float complex bytearray memoryview object hash callable filter print format""".split()
@@ -160,6 +163,20 @@ class Language(unittest.TestCase):
             for node in ast.walk(ast.parse(text)):
                 if isinstance(node, ast.Name) and isinstance(node.ctx, ast.Load) and hasattr(builtins, node.id):
                     self.assertIn(node.id, USED_BUILTINS, f"{name}:{node.lineno}")
+
+    def test_calls(self):
+        for name, text in files().items():
+            for node in ast.walk(ast.parse(text)):
+                if isinstance(node, ast.Call) and isinstance(node.func, ast.Attribute):
+                    self.assertNotEqual(node.func.attr, "sort", f"{name}:{node.lineno}")
+                if isinstance(node, ast.Call) and isinstance(node.func, ast.Name) and node.func.id == "reversed":
+                    self.assertIsInstance(node.args[0], (ast.Call, ast.List, ast.Tuple), f"{name}:{node.lineno}")
+
+    def test_local_sets_are_not_stored(self):
+        for name, text in files().items():
+            for node in ast.walk(ast.parse(text)):
+                if isinstance(node, (ast.Assign, ast.Return)):
+                    self.assertNotIsInstance(node.value, (ast.Set, ast.SetComp), f"{name}:{node.lineno}")
 
     def test_strings(self):
         for name, text in files().items():
