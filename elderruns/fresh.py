@@ -59,11 +59,11 @@ class Fresh:
                 held[slot.name] = reckon(slot.value.signs, held, {}, 0)
                 made.append(held[slot.name])
             else:
-                made.append(self._moves_of(slot, held))
+                made.append(self.moves_of(slot, held))
                 moves.extend(made[-1])
         return FreshRun(held, made, moves)
 
-    def _moves_of(self, slot, caught):
+    def moves_of(self, slot, caught):
         """Return the moves of a handler that caught some integers, for each argument."""
         many = len(self.holdings)
         present = {name: column * slot.many for name, column in self.columns.items()}

@@ -7,13 +7,14 @@ from elderruns.signs import reckon
 class Made:
     """A slot as it was made in a run; it never changes.
 
-    `caught` has the integers of all cells and memos ahead in that run, `worth` is the integer
-    of a memo.
+    `caught` has the integers of all cells and memos ahead in that run, `since` is the index of
+    the run, and `worth` the integer of a memo.
     """
 
-    def __init__(self, slot, caught):
+    def __init__(self, slot, caught, since):
         self.slot = slot
         self.caught = caught
+        self.since = since
         self.worth = None
         if slot.many == 0:
             self.worth = reckon(slot.value.signs, caught, {}, 0)
@@ -22,14 +23,17 @@ class Made:
 class Run:
     """A run of a part; it never changes.
 
-    `present` is the dict of what the cells hold, `kept` the list of the slots as they are now,
+    `index` is the number of the runs before it, `present` the dict of what the cells hold, `held`
+    the dict of the integers of all cells and memos, `kept` the list of the slots as they are now,
     `made` the list of the names of those that were made in it, and `shows` what is shown.
     """
 
-    def __init__(self, present, kept, made, shows):
+    def __init__(self, index, present, held, kept, shows):
+        self.index = index
         self.present = present
+        self.held = held
         self.kept = kept
-        self.made = made
+        self.made = [one.slot.name for one in kept if one.since == index]
         self.shows = shows
 
 
@@ -50,9 +54,9 @@ def check_batch(part, index, batch):
         check_event(part, name, argument)
 
 
-def stands(one, held):
-    """Return True if all names beside a slot stand for what they stood for when it was made."""
-    return all([one.caught[name] == held[name] for name in one.slot.listed])
+def stands(one, names, held):
+    """Return True if some names stand for what they stood for when a slot was made."""
+    return all([one.caught[name] == held[name] for name in names])
 
 
 def run_with(part, present, before, anew):
@@ -60,18 +64,17 @@ def run_with(part, present, before, anew):
 
     With `anew` each slot is made, as in the fresh part.
     """
+    index = 0 if before is None else before.index + 1
     held = dict(present)
     kept = []
-    made = []
     for place, slot in enumerate(part.built):
-        if anew or before is None or not stands(before.kept[place], held):
-            kept.append(Made(slot, dict(held)))
-            made.append(slot.name)
+        if anew or before is None or not stands(before.kept[place], slot.listed, held):
+            kept.append(Made(slot, dict(held), index))
         else:
             kept.append(before.kept[place])
         if slot.many == 0:
             held[slot.name] = kept[place].worth
-    return Run(present, kept, made, [reckon(value.signs, held, {}, 0) for value in part.showing])
+    return Run(index, present, held, kept, [reckon(value.signs, held, {}, 0) for value in part.showing])
 
 
 def first_run(part, anew):
@@ -88,6 +91,19 @@ def fired(part, one, argument, present):
     return cells
 
 
+def handlers_of(part, run, batch):
+    """Return for each event of a batch the handler of a run that does it, with the argument."""
+    return [(run.kept[part.place_of(name)], argument) for name, argument in batch]
+
+
+def run_behind(part, run, firings, anew):
+    """Return the run behind another one and some handlers, each fired with an argument."""
+    present = run.present
+    for one, argument in firings:
+        present = fired(part, one, argument, present)
+    return run_with(part, present, run, anew)
+
+
 def runs_behind(part, row, anew):
     """Return the list of the runs of a row, the one ahead of it first."""
     for index, batch in enumerate(row):
@@ -95,8 +111,5 @@ def runs_behind(part, row, anew):
     runs = [first_run(part, anew)]
     for batch in row:
         latest = runs[-1]
-        present = latest.present
-        for name, argument in batch:
-            present = fired(part, latest.kept[part.place_of(name)], argument, present)
-        runs.append(run_with(part, present, latest, anew))
+        runs.append(run_behind(part, latest, handlers_of(part, latest, batch), anew))
     return runs

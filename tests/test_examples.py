@@ -49,6 +49,27 @@ LATE = '''
 >>> [late_rows(part, "up"), late_rows(part, "more"), can_wait(part, "more"), cut_rows(part)]
 [([], [[('up', 0)]]), None, True, ([], [('up', 0), ('up', 0)])]
 '''
+SCREENS = '''
+>>> from elderruns.parts import Part, handler, memo
+>>> from elderruns.screens import Screen
+>>> from elderruns.values import named, now
+>>> part = Part([("n", 3)], [memo("twice", named("n") * 2, []), handler("up", 1, [("n", named("n") + 1)], ["n"])], [named("twice"), named("n")])
+>>> screen = Screen(part)
+>>> first = screen["up"]
+>>> [screen("up"), screen["twice"], screen.is_right, screen.batch([("up", 0), ("up", 0)]), first(), screen["up"].run, first.run, screen.runs, screen.undo(), screen.cells]
+[[0, 1], 0, False, [0, 2], [0, 1], 3, 0, 4, None, [2]]
+'''
+TEXTS = '''
+>>> from elderruns.parts import Part, handler, memo
+>>> from elderruns.readings import read_part, read_value
+>>> from elderruns.texts import show_part, show_value
+>>> from elderruns.values import named, now, passed
+>>> part = Part([("n", 3)], [memo("twice", named("n") * 2, ["n"]), handler("up", 2, [("n", now("n") + passed())], [])], [named("twice"), 7])
+>>> show_part(part)
+'cells n:3; memo twice (n * 2) [n]; on up:2 {n < (!n + ?)} []; show twice 7'
+>>> [show_value(~(named("a") - -3).less(now("b"))), read_part(show_part(part)) == part, read_value("(? + 1)") == passed() + 1]
+['~((a - -3) < !b)', True, True]
+'''
 README = os.path.join(os.path.dirname(os.path.dirname(os.path.abspath(__file__))), "README.md")
 
 
@@ -74,10 +95,16 @@ class Examples(unittest.TestCase):
     def test_late(self):
         self.check(LATE, 5)
 
+    def test_screens(self):
+        self.check(SCREENS, 7)
+
+    def test_texts_and_readings(self):
+        self.check(TEXTS, 7)
+
     def test_readme(self):
         with open(README, encoding="utf-8") as file:
             blocks = file.read().split("```\n")[1::2]
-        self.check("\n".join(one for one in blocks if one.startswith(">>>")), 10)
+        self.check("\n".join(one for one in blocks if one.startswith(">>>")), 19)
 
 
 if __name__ == "__main__":

@@ -18,6 +18,8 @@ FUNCTIONS = {
                  "missing_row": ["part", "name", "names", "together=False"],
                  "tightened": ["part", "together=False"], "idle": ["part", "together=False"]},
     "late.py": {"late_rows": ["part", "name"], "can_wait": ["part", "name"], "cut_rows": ["part"]},
+    "texts.py": {"show_value": ["value"], "show_part": ["part"]},
+    "readings.py": {"read_value": ["text"], "read_part": ["text"]},
 }
 # Each class with its methods, of which those with None are called by their signs, and its properties.
 CLASSES = {
@@ -35,6 +37,11 @@ CLASSES = {
         "Part": ({"__init__": ["cells", "slots", "shown"], "having": ["name", "names"], "full": [],
                   "__getitem__": None, "__len__": None, "__eq__": None},
                  ["cells", "slots", "handlers"])},
+    "screens.py": {
+        "Kept": ({"__call__": ["argument=0"], "__eq__": None}, ["run"]),
+        "Screen": ({"__init__": ["part"], "__call__": ["name", "argument=0"], "batch": ["events"], "undo": [],
+                    "__getitem__": None, "__eq__": None},
+                   ["cells", "shown", "is_right", "runs"])},
 }
 
 

@@ -30,6 +30,8 @@ BARRED_NAMES = """register mro elements open input law version_info with_traceba
 BARRED_WORDS = """type typing typing_extensions enum Enum IntEnum StrEnum Flag IntFlag Generic Protocol ABC ABCMeta
     namedtuple NamedTuple TypedDict TYPE_CHECKING abstractmethod _wall _WallAttr Meta metaclass dataclass""".split()
 
+CHANGING = "append clear extend insert pop remove reverse setdefault update sort add discard".split()
+
 
 def files():
     """Return the names of the files of the package with their texts."""
@@ -52,6 +54,42 @@ def bound_names(tree):
         elif isinstance(node, ast.Name) and isinstance(node.ctx, ast.Store):
             names.append(node.id)
     return names
+
+
+def functions():
+    """Return all functions and methods of the package by their names, those of one name in a list."""
+    found = {}
+    for text in files().values():
+        for node in ast.walk(ast.parse(text)):
+            if isinstance(node, ast.FunctionDef):
+                found.setdefault(node.name, []).append(node)
+    return found
+
+
+def run_by_signs():
+    """Return the functions that operators, comparisons and properties run, in the order in which they are found."""
+    known = functions()
+    rooted = [one for name in UNDERSCORES if name not in ("__init__", "__call__", "__enter__", "__exit__")
+              for one in known.get(name, [])]
+    rooted += [one for nodes in known.values() for one in nodes
+               if [ast.unparse(rule) for rule in one.decorator_list] == ["property"]]
+    for function in rooted:
+        for node in ast.walk(function):
+            if isinstance(node, ast.Call):
+                name = node.func.attr if isinstance(node.func, ast.Attribute) else node.func.id
+                rooted += [one for one in known.get(name, []) if one not in rooted]
+    return rooted
+
+
+def created(function):
+    """Return the names in a function that are assigned nothing but new lists and dicts."""
+    found = {}
+    for node in ast.walk(function):
+        if isinstance(node, ast.Assign) and isinstance(node.targets[0], ast.Name):
+            new = isinstance(node.value, (ast.List, ast.Dict, ast.ListComp, ast.DictComp))
+            new = new or isinstance(node.value, ast.Call) and ast.unparse(node.value.func) in ("list", "dict", "sorted")
+            found[node.targets[0].id] = new and found.get(node.targets[0].id, True)
+    return [name for name, new in found.items() if new]
 
 
 class Language(unittest.TestCase):
@@ -154,7 +192,7 @@ class Language(unittest.TestCase):
             for one in bound_names(ast.parse(text)):
                 if one.startswith("__"):
                     self.assertIn(one, UNDERSCORES, name)
-                else:
+                elif one != "_":
                     self.assertNotIn(one, dir(builtins), name)
                     self.assertNotIn(one, BARRED_NAMES, name)
 
@@ -185,6 +223,23 @@ class Language(unittest.TestCase):
                     self.assertNotIn("%", node.value, f"{name}:{node.lineno}")
             for word in re.findall(r"\w+", text):
                 self.assertNotIn(word, BARRED_WORDS, name)
+
+    def test_what_signs_and_properties_run_changes_nothing(self):
+        found = run_by_signs()
+        self.assertIn("place_of", [one.name for one in found])
+        for function in found:
+            own = created(function)
+            for node in ast.walk(function):
+                place = f"{function.name}: {ast.unparse(node)}" if isinstance(node, ast.expr) else function.name
+                self.assertNotIsInstance(node, (ast.Delete, ast.Nonlocal, ast.Global), place)
+                if isinstance(node, ast.Attribute):
+                    self.assertIsInstance(node.ctx, ast.Load, place)
+                if isinstance(node, ast.Subscript) and not isinstance(node.ctx, ast.Load):
+                    self.assertIn(ast.unparse(node.value), own, place)
+                if isinstance(node, ast.Call) and isinstance(node.func, ast.Name):
+                    self.assertNotIn(node.func.id, bound_names(function)[1:], place)
+                if isinstance(node, ast.Call) and isinstance(node.func, ast.Attribute) and node.func.attr in CHANGING:
+                    self.assertIn(ast.unparse(node.func.value), own, place)
 
     def test_a_class_with_items_is_not_iterated_over_by_chance(self):
         for name, text in files().items():
